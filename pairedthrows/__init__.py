@@ -1,0 +1,1 @@
+"""Pairedthrows: what answers with throws between tell of any one member."""
