@@ -1,0 +1,58 @@
+"""What reading, writing and looking know in common of the forms of rows and terms."""
+
+SIGNS = ("+", "-", "*", "<", "=")
+
+THROWS = ("ladder", "flat", "choose", "first")
+
+
+def has_one_sum(sort):
+    return sort in ("ladder", "flat")
+
+
+# In a throw's row its sum, or its sums, stand in another place than in its text.
+def place_of_sums(sort):
+    return 5 if sort == "first" else 2
+
+
+def names_in(term):
+    names = []
+    waiting = [term]
+    while waiting:
+        part = waiting.pop()
+        if part[0] == "name":
+            names.append(part[1])
+        elif part[0] == "op":
+            waiting.extend([part[3], part[2]])
+    return names
+
+
+def as_steps(rows):
+    return [("row", row) for row in rows]
+
+
+def inner_steps(row):
+    if row[0] == "when":
+        return as_steps(row[2]) + [("else", row)] + as_steps(row[3]) + [("end", row)]
+    if row[0] == "times":
+        return as_steps(row[2]) + [("end", row)]
+    return []
+
+
+# All rows in the order in which they are gone through, each as (word, row, number): word is
+# "row" where the row stands, "else" and "end" where a when or a times has these; number is
+# the row's own in all of them. Rows may stand so deep within one another that calls can't
+# follow, so what is still to come is kept in a list.
+def steps_of(rows):
+    steps = []
+    count = 0
+    waiting = [(step[0], step[1], -1) for step in reversed(as_steps(rows))]
+    while waiting:
+        step = waiting.pop()
+        if step[0] == "row":
+            row = step[1]
+            steps.append(("row", row, count))
+            waiting.extend([(inner[0], inner[1], count) for inner in reversed(inner_steps(row))])
+            count += 1
+        else:
+            steps.append(step)
+    return steps
