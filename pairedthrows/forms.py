@@ -1,4 +1,4 @@
-"""What reading, writing and looking know in common of the forms of rows and terms."""
+"""What the other files know in common of the forms of rows and terms."""
 
 SIGNS = ("+", "-", "*", "<", "=")
 
@@ -14,16 +14,25 @@ def place_of_sums(sort):
     return 5 if sort == "first" else 2
 
 
-def names_in(term):
-    names = []
+def sums_of(row):
+    asked = row[place_of_sums(row[0])]
+    return (asked,) if has_one_sum(row[0]) else asked
+
+
+# The term and all its parts, each ahead of its own parts.
+def parts_of(term):
+    parts = []
     waiting = [term]
     while waiting:
         part = waiting.pop()
-        if part[0] == "name":
-            names.append(part[1])
-        elif part[0] == "op":
+        parts.append(part)
+        if part[0] == "op":
             waiting.extend([part[3], part[2]])
-    return names
+    return parts
+
+
+def names_in(term):
+    return [part[1] for part in parts_of(term) if part[0] == "name"]
 
 
 def as_steps(rows):

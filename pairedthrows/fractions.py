@@ -22,6 +22,15 @@ def times(one, other):
     return lowest(one[0] * other[0], one[1] * other[1])
 
 
+# Fractions go from 0 on, so the other is no greater than the one.
+def minus(one, other):
+    return lowest(one[0] * other[1] - other[0] * one[1], one[1] * other[1])
+
+
+def divided(one, other):
+    return lowest(one[0] * other[1], one[1] * other[0])
+
+
 def power(one, k):
     # Powers of a fraction in lowest terms share no divisor either, so none is looked for.
     top = 1

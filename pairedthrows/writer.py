@@ -1,6 +1,6 @@
 """Programs and terms, written as their texts."""
 
-from pairedthrows.forms import THROWS, has_one_sum, place_of_sums, steps_of
+from pairedthrows.forms import THROWS, place_of_sums, steps_of, sums_of
 
 
 def show_term(term):
@@ -34,12 +34,10 @@ def show_field(value):
 
 
 def show_throw(row, kinds):
-    sort = row[0]
-    place = place_of_sums(sort)
-    sums = [row[place]] if has_one_sum(sort) else row[place]
+    place = place_of_sums(row[0])
     fields = [show_field(value) for value in row[1:place] + row[place + 1:]]
-    asked = " | ".join([show_sum(weights, kinds) for weights in sums])
-    return " ".join([sort] + fields + ["of", asked])
+    asked = " | ".join([show_sum(weights, kinds) for weights in sums_of(row)])
+    return " ".join([row[0]] + fields + ["of", asked])
 
 
 def show_row(row, kinds):

@@ -4,7 +4,7 @@ import itertools
 import unittest
 from fractions import Fraction
 
-from pairedthrows.fractions import added, less, lowest, power, times
+from pairedthrows.fractions import added, divided, less, lowest, minus, power, times
 
 SMALL = sorted({(f.numerator, f.denominator)
                 for f in (Fraction(p, q) for p in range(0, 9) for q in range(1, 9))})
@@ -48,6 +48,13 @@ class Fractions(unittest.TestCase):
         self.assertEqual(times((2, 3), (3, 2)), (1, 1))
         self.assertEqual(times((0, 1), (5, 7)), (0, 1))
         self.assertEqual(times((4, 9), (3, 8)), (1, 6))
+
+    def test_minus_and_divided(self):
+        for one, other in itertools.product(SMALL + GREAT, repeat=2):
+            if Fraction(*one) >= Fraction(*other):
+                self.told(minus(one, other), Fraction(*one) - Fraction(*other))
+            if other != (0, 1):
+                self.told(divided(one, other), Fraction(*one) / Fraction(*other))
 
     def test_power(self):
         for one in SMALL + GREAT:
