@@ -35,6 +35,19 @@ def names_in(term):
     return [part[1] for part in parts_of(term) if part[0] == "name"]
 
 
+def sets_name(row):
+    return row[0] in THROWS or row[0] == "let"
+
+
+# The names in the row's own term, not in its inner rows.
+def names_asked(row):
+    if row[0] == "let":
+        return names_in(row[2])
+    if row[0] in ("tell", "when"):
+        return names_in(row[1])
+    return []
+
+
 def as_steps(rows):
     return [("row", row) for row in rows]
 

@@ -5,7 +5,7 @@ all are gathered, and the least one is the first that is amiss.
 """
 
 from pairedthrows.errors import NoProgram
-from pairedthrows.forms import THROWS, names_in, steps_of
+from pairedthrows.forms import THROWS, names_asked, sets_name, steps_of
 
 MOST_KINDS = 3
 
@@ -28,14 +28,6 @@ def range_faults(steps):
     return [(number, 0, "range") for word, row, number in steps if word == "row" and range_is_amiss(row)]
 
 
-def names_asked(row):
-    if row[0] == "let":
-        return names_in(row[2])
-    if row[0] in ("tell", "when"):
-        return names_in(row[1])
-    return []
-
-
 def in_both(one, other):
     both = {}
     for name in one:
@@ -53,7 +45,7 @@ def unknown_faults(steps):
         if word == "row":
             if not all([name in known for name in names_asked(row)]):
                 faults.append((number, 1, "unknown"))
-            if row[0] in THROWS or row[0] == "let":
+            if sets_name(row):
                 known[row[1]] = True
             if row[0] == "when":
                 kept.append(dict(known))

@@ -39,6 +39,10 @@ copyright credits delattr dir eval exec exit gc getattr globals hasattr help id 
 methodcaller os quit setattr super vars sys format format_map chr
 """.split()
 
+WALKED = "zip enumerate reversed range items keys values".split()
+
+WALKERS = "list tuple dict sorted sum any all enumerate zip min max".split()
+
 
 def files():
     return sorted(PACKAGE.glob("*.py"))
@@ -178,6 +182,34 @@ class Language(unittest.TestCase):
             for node in ast.walk(tree):
                 if isinstance(node, ast.Call) and isinstance(node.func, ast.Attribute):
                     self.assertIn(node.func.attr, METHODS + sorted(own))
+
+    def test_what_is_walked_at_once(self):
+        for _, _, tree in self.each():
+            free = set()
+            for node in ast.walk(tree):
+                if isinstance(node, (ast.For, ast.comprehension)):
+                    free.add(node.iter)
+                if isinstance(node, ast.Call) and isinstance(node.func, ast.Name) and node.func.id in WALKERS:
+                    free.add(node.args[0])
+                    if node.func.id == "zip":
+                        free.update(node.args)
+            for node in ast.walk(tree):
+                if isinstance(node, ast.Call) and node not in free:
+                    name = getattr(node.func, "id", None) or getattr(node.func, "attr", None)
+                    self.assertNotIn(name, WALKED, ast.dump(node))
+
+    def test_sets_are_not_kept(self):
+        for _, _, tree in self.each():
+            free = set()
+            for node in ast.walk(tree):
+                if isinstance(node, ast.Call) and isinstance(node.func, ast.Name) and node.func.id in ("len", "sorted"):
+                    free.add(node.args[0])
+                if isinstance(node, ast.Compare):
+                    free.update([node.left] + node.comparators)
+            for node in ast.walk(tree):
+                self.assertNotIsInstance(node, ast.Set)
+                if isinstance(node, ast.Call) and isinstance(node.func, ast.Name) and node.func.id in ("set", "frozenset"):
+                    self.assertIn(node, free)
 
 
 if __name__ == "__main__":
