@@ -35,6 +35,12 @@ def names_in(term):
     return [part[1] for part in parts_of(term) if part[0] == "name"]
 
 
+# Between these a throw's sums are cut.
+def range_of_sums(row):
+    # A first's highest rung is kept for its mark, so that no sum need be a yes.
+    return (row[-2], row[-1] - 1 if row[0] == "first" else row[-1])
+
+
 def sets_name(row):
     return row[0] in THROWS or row[0] == "let"
 
@@ -78,3 +84,39 @@ def steps_of(rows):
         else:
             steps.append(step)
     return steps
+
+
+def begins_rows(word, row):
+    return word == "else" or (word == "row" and row[0] in ("when", "times"))
+
+
+# A part is a row or a tuple of rows; such a tuple begins with a row, if with anything.
+def is_row(part):
+    return len(part) > 0 and isinstance(part[0], str)
+
+
+def parts_right_in(part):
+    if not is_row(part):
+        return list(part)
+    if part[0] == "when":
+        return [part[2], part[3]]
+    if part[0] == "times":
+        return [part[2]]
+    return []
+
+
+def places_right_in(place, part):
+    return [place + (k,) for k in range(len(parts_right_in(part)))]
+
+
+# Each place with its part, parts ahead of what they are in.
+def places_of(rows):
+    found = []
+    waiting = [((), rows)]
+    while waiting:
+        found.append(waiting.pop())
+        place = found[-1][0]
+        part = found[-1][1]
+        waiting.extend(list(zip(places_right_in(place, part), parts_right_in(part))))
+    # The last in a part was found first, and each behind what it is in.
+    return list(reversed(found))

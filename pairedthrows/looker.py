@@ -5,7 +5,7 @@ all are gathered, and the least one is the first that is amiss.
 """
 
 from pairedthrows.errors import NoProgram
-from pairedthrows.forms import THROWS, names_asked, sets_name, steps_of
+from pairedthrows.forms import THROWS, begins_rows, names_asked, sets_name, steps_of
 
 MOST_KINDS = 3
 
@@ -56,10 +56,6 @@ def unknown_faults(steps):
         elif row[0] == "when":
             known = in_both(kept.pop(), known)
     return faults
-
-
-def begins_rows(word, row):
-    return word == "else" or (word == "row" and row[0] in ("when", "times"))
 
 
 def tells_faults(steps):

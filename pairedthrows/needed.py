@@ -29,7 +29,11 @@ def needed(program):
     return tuple(sorted(found))
 
 
+# Whether the row is idle where just these names are needed.
+def is_idle(row, names):
+    return sets_name(row) and row[1] not in names
+
+
 def idle(program):
     names = needed(program)
-    rows = rows_in(program)
-    return tuple([number for number, row in enumerate(rows) if sets_name(row) and row[1] not in names])
+    return tuple([number for number, row in enumerate(rows_in(program)) if is_idle(row, names)])

@@ -1,6 +1,6 @@
 """Throws: what each tells of a crowd, as a table of shares."""
 
-from pairedthrows.forms import sums_of
+from pairedthrows.forms import range_of_sums, sums_of
 from pairedthrows.fractions import divided, minus, power, times
 from pairedthrows.tables import come_to, merged
 
@@ -14,10 +14,8 @@ def added_up(weights, crowd):
 
 
 def number_of(row, crowd):
-    low = row[-2]
-    # A first's highest rung is kept for its mark, so that no sum need be a yes.
-    high = row[-1] - 1 if row[0] == "first" else row[-1]
-    return tuple([cut(added_up(weights, crowd), low, high) for weights in sums_of(row)])
+    bounds = range_of_sums(row)
+    return tuple([cut(added_up(weights, crowd), bounds[0], bounds[1]) for weights in sums_of(row)])
 
 
 def share_of(steepness, k):

@@ -6,28 +6,7 @@ import programs
 from pairedthrows.needed import idle, needed
 from pairedthrows.reader import read
 
-SETTING = ("ladder", "flat", "choose", "first", "let")
 MANY = [programs.right_program(seed) for seed in range(400)] + [programs.make_program(seed) for seed in range(200)]
-
-
-def names_in(term):
-    if term[0] == "op":
-        return names_in(term[2]) | names_in(term[3])
-    return {term[1]} if term[0] == "name" else set()
-
-
-def needed_names(program):
-    """Point 26, said again and again until nothing comes in."""
-    names = set()
-    while True:
-        before = set(names)
-        for row in programs.inner_first(program[1]):
-            if row[0] in ("tell", "when"):
-                names |= names_in(row[1])
-            if row[0] == "let" and row[1] in names:
-                names |= names_in(row[2])
-        if names == before:
-            return names
 
 
 class Needed(unittest.TestCase):
@@ -94,9 +73,9 @@ class Needed(unittest.TestCase):
     def test_many(self):
         counts = [0, 0]
         for program in MANY:
-            names = needed_names(program)
+            names = programs.needed_names(program)
             wanted = tuple(number for number, row in enumerate(programs.inner_first(program[1]))
-                           if row[0] in SETTING and row[1] not in names)
+                           if programs.is_idle(row, names))
             for _ in range(2):
                 self.assertEqual(needed(program), tuple(sorted(names)))
                 self.assertEqual(idle(program), wanted)
