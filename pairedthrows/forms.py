@@ -90,6 +90,24 @@ def begins_rows(word, row):
     return word == "else" or (word == "row" and row[0] in ("when", "times"))
 
 
+# The rows anew: in the place of each stand those of the list that change tells of it and its
+# number. What a when or a times has in it is changed ahead of itself.
+def rebuilt(rows, change):
+    # The new rows so far of each tuple of rows that is not at its end.
+    blocks = [[]]
+    for word, row, number in steps_of(rows):
+        if begins_rows(word, row):
+            blocks.append([])
+        elif word == "row":
+            blocks[-1].extend(change(row, number))
+        else:
+            many = len(row[2:])
+            inner = tuple([tuple(block) for block in blocks[-many:]])
+            blocks = blocks[:-many]
+            blocks[-1].extend(change(row[:2] + inner, number))
+    return tuple(blocks[0])
+
+
 # A part is a row or a tuple of rows; such a tuple begins with a row, if with anything.
 def is_row(part):
     return len(part) > 0 and isinstance(part[0], str)

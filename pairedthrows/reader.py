@@ -11,8 +11,6 @@ from pairedthrows.words import is_name
 
 FIGURES = "0123456789"
 
-MOST_FIGURES = 3
-
 MOST_SUMS = 4
 
 MOST_WEIGHT = 3
@@ -36,7 +34,7 @@ class Block:
 
 def read_number(word, low, high):
     # Longer ones are too great anyway, and turning very long ones into a number may fail.
-    if not 1 <= len(word) <= MOST_FIGURES:
+    if not 1 <= len(word) <= len(str(high)):
         return None
     if not all([sign in FIGURES for sign in word]):
         return None

@@ -239,6 +239,21 @@ def sums_in(row):
     return row[2] if row[0] == "choose" else (row[2],)
 
 
+def wide(rows, ahead, last):
+    """The rows with more weights in each sum: some ahead of its own, some behind them."""
+    told = []
+    for row in rows:
+        if row[0] in THROWS:
+            place = 5 if row[0] == "first" else 2
+            sums = ahead + row[place] + last if row[0] in ("ladder", "flat") else \
+                tuple(ahead + weights + last for weights in row[place])
+            row = row[:place] + (sums,) + row[place + 1:]
+        elif row[0] in ("when", "times"):
+            row = row[:2] + tuple(wide(inner, ahead, last) for inner in row[2:])
+        told.append(row)
+    return tuple(told)
+
+
 def g_share(a, k):
     return (1 - a) / (1 + a) * a ** abs(k)
 

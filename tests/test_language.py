@@ -160,6 +160,23 @@ class Language(unittest.TestCase):
             self.assertNotEqual(free, [], drawn)
             drawn = {name: drawn[name] for name in drawn if name not in free}
 
+    def test_values_of_a_file_s_top_are_plain(self):
+        for _, _, tree in self.each():
+            for node in tree.body:
+                if isinstance(node, ast.Assign):
+                    self.assertIsNotNone(ast.literal_eval(node.value))
+                    parts = [part for part in ast.walk(node.value) if isinstance(part, (ast.List, ast.Dict))]
+                    self.assertIn(parts, ([], [node.value]))
+
+    def test_keywords(self):
+        allowed = {"sorted": ("key", "reverse"), "min": ("key", "default"), "max": ("key", "default"),
+                   "sum": ("start",), "enumerate": ("start",), "zip": ("strict",)}
+        for _, _, tree in self.each():
+            for node in ast.walk(tree):
+                if isinstance(node, ast.Call) and node.keywords:
+                    for keyword in node.keywords:
+                        self.assertIn(keyword.arg, allowed.get(getattr(node.func, "id", ""), ()))
+
     def test_names(self):
         for _, text, tree in self.each():
             bound = [name for name in bound_names(tree) if name != "__init__"]
